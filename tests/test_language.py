@@ -10,8 +10,8 @@ PACKAGE = pathlib.Path(__file__).resolve().parent.parent / "ribboncast"
 FILES = sorted(PACKAGE.rglob("*.py"))
 
 OWN_NAMES = set(
-    "len range enumerate zip min max sum abs sorted reversed int str bool bytes list tuple dict set isinstance ord repr "
-    "any all divmod ValueError KeyError IndexError LookupError ZeroDivisionError StopIteration".split()
+    "len range enumerate zip min max sum abs sorted reversed int str bool bytes list tuple dict set isinstance ord "
+    "repr any all divmod ValueError KeyError IndexError LookupError ZeroDivisionError StopIteration".split()
 )
 
 BARRED_WORDS = (
@@ -19,6 +19,14 @@ BARRED_WORDS = (
     "NamedTuple TypedDict TYPE_CHECKING abstractmethod register mro elements open input version_info with_traceback "
     "add_note"
 ).split()
+
+OWN_METHODS = (
+    "append clear copy count endswith extend find get index insert isalnum isalpha isdigit islower isspace isupper items "
+    "join keys ljust lower lstrip partition pop remove replace reverse rfind rjust rpartition rsplit rstrip setdefault "
+    "split splitlines startswith strip update upper values zfill bit_length sort"
+).split()
+
+TOP_NODES = (ast.Expr, ast.ImportFrom, ast.FunctionDef, ast.ClassDef, ast.Assign)
 
 BARRED_NODES = (
     ast.GeneratorExp, ast.NamedExpr, ast.Starred, ast.Div, ast.With, ast.Match, ast.Global, ast.Nonlocal, ast.Yield,
@@ -76,6 +84,37 @@ class Language(unittest.TestCase):
                 self.assertEqual(node.level, 0, name)
                 self.assertRegex(node.module, r"^ribboncast\.[a-z_]+$", name)
                 self.assertNotIn("*", [drawn.name for drawn in node.names], name)
+
+    def test_the_top_of_a_file(self):
+        for path in FILES:
+            bound = []
+            for at, node in enumerate(tree_of(path).body):
+                self.assertIsInstance(node, TOP_NODES, path.name)
+                if isinstance(node, ast.Expr):
+                    self.assertEqual((at, isinstance(node.value, ast.Constant)), (0, True), path.name)
+                elif isinstance(node, ast.ImportFrom):
+                    bound += [drawn.asname or drawn.name for drawn in node.names]
+                elif isinstance(node, ast.Assign):
+                    bound += [target.id for target in node.targets]
+                else:
+                    bound.append(node.name)
+            self.assertEqual(len(bound), len(set(bound)), path.name)
+
+    def test_nothing_is_called_like_an_import(self):
+        for path in FILES:
+            nodes = list(ast.walk(tree_of(path)))
+            drawn = [name.name for node in nodes if isinstance(node, ast.ImportFrom) for name in node.names]
+            given = [node.id for node in nodes if isinstance(node, ast.Name) and isinstance(node.ctx, ast.Store)]
+            given += [node.arg for node in nodes if isinstance(node, ast.arg)]
+            self.assertEqual(set(drawn) & set(given), set(), path.name)
+            read = [node.id for node in nodes if isinstance(node, ast.Name) and isinstance(node.ctx, ast.Load)]
+            self.assertEqual(set(drawn) - set(read), set(), path.name)
+
+    def test_methods(self):
+        own = [node.name for name, node in nodes_of_all() if isinstance(node, ast.FunctionDef)]
+        for name, node in nodes_of_all():
+            if isinstance(node, ast.Call) and isinstance(node.func, ast.Attribute):
+                self.assertIn(node.func.attr, OWN_METHODS + own, name)
 
     def test_names(self):
         for name, node in nodes_of_all():
