@@ -111,12 +111,17 @@ def units_of(case, thing):
     return case[0][row] + cam
 
 
-def sign_of(case, thing):
-    """The sign of a name or the blank, or NoName for any other thing."""
-    name, column, row, cam = filled_cell_of(case, thing)
+def sign_of_filled(filled):
+    """The sign of a filled cell, a tuple (name, column, row, cam)."""
+    name, column, row, cam = filled
     if name == BLANK:
         return ("blank", column, row)
     return ("letter", column, row, cam)
+
+
+def sign_of(case, thing):
+    """The sign of a name or the blank, or NoName for any other thing."""
+    return sign_of_filled(filled_cell_of(case, thing))
 
 
 def longest_name_at(names, word, at):

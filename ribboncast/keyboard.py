@@ -14,6 +14,7 @@ MOST_NAMES = 60
 MOST_BLANKS = 12
 
 FINE_IN_COARSE = 15
+NO_STEPS = (0, 0)
 
 
 def are_job_numbers(scale, least, fine, measure):
@@ -31,31 +32,30 @@ def is_job(thing):
     return is_case(case) and are_job_numbers(scale, least, fine, measure)
 
 
-def name_widths(job):
-    """The grains of each name of the case, and the least ones of the blank."""
-    case, scale, least, fine, measure = job
-    widths = {name: (case[0][row] + cam) * scale for name, column, row, cam in filled_cells(case)}
-    # What row the blank lies in tells nothing of its width.
-    widths[BLANK] = least
-    return widths
-
-
 def widening_of(steps):
     """How many fine steps a blank is widened by, by these steps."""
     coarse, fine = steps
     return FINE_IN_COARSE * coarse + fine
 
 
-def natural_width(job, names):
-    """The width of names with their blanks at their least."""
-    widths = name_widths(job)
-    return sum([widths[name] for name in names])
+def name_widths(job, steps):
+    """The grains of each name of the case, and those of the blank by steps."""
+    case, scale, least, fine, measure = job
+    widths = {name: (case[0][row] + cam) * scale for name, column, row, cam in filled_cells(case)}
+    # What row the blank lies in tells nothing of its width.
+    widths[BLANK] = least + fine * widening_of(steps)
+    return widths
 
 
 def line_width(job, names, steps):
     """The width of a line by steps."""
-    case, scale, least, fine, measure = job
-    return natural_width(job, names) + names.count(BLANK) * fine * widening_of(steps)
+    widths = name_widths(job, steps)
+    return sum([widths[name] for name in names])
+
+
+def natural_width(job, names):
+    """The width of a line with its blanks at their least."""
+    return line_width(job, names, NO_STEPS)
 
 
 def steps_by(job, natural, blanks):
@@ -71,7 +71,7 @@ def steps_by(job, natural, blanks):
     if lacking >= max(grains, 1):
         raise Loose(lacking)
     if blanks == 0:
-        return (0, 0)
+        return NO_STEPS
     return divmod(min(room // grains, greatest), FINE_IN_COARSE)
 
 
@@ -91,7 +91,7 @@ def could_be_kept(job, natural, blanks):
 
 def bell_at(job, names):
     """The least number of names, from the first on, that could be kept as a line, or None."""
-    widths = name_widths(job)
+    widths = name_widths(job, NO_STEPS)
     natural = 0
     blanks = 0
     # No names at all are never as wide as a measure, so the first number asked is 1.

@@ -4,41 +4,9 @@ import unittest
 
 from ribboncast.errors import CastError, NoHoles
 from ribboncast.holes import is_row_of_holes, is_sign, is_size, read_holes, strike
-from things import ODD_THINGS
+from things import ODD_THINGS, all_signs, holes_by_the_document
 
 SIZES = [(2, 2), (2, 15), (15, 2), (3, 2), (4, 7), (14, 15), (15, 15)]
-
-
-def all_signs(size):
-    wide, high = size
-    signs = [("struck",)]
-    for step in range(15):
-        signs.append(("coarse", step))
-        signs.append(("fine", step))
-    for column in range(wide):
-        for row in range(high):
-            signs.append(("blank", column, row))
-            for cam in (-1, 0, 1):
-                signs.append(("letter", column, row, cam))
-    return signs
-
-
-def holes_by_the_document(size, sign):
-    """Point 6, clause by clause, reckoned otherwise than in the program."""
-    wide, high = size
-    holes = []
-    if sign[0] in ("letter", "blank"):
-        holes += [c for c in range(wide - 1) if c == sign[1]]
-        holes += [14 + r for r in range(high - 1) if r == sign[2]]
-    if sign[0] in ("coarse", "fine"):
-        holes += [14 + s for s in range(14) if s == sign[1]]
-    if sign[0] in ("blank", "coarse", "fine", "struck"):
-        holes.append(28)
-    if sign[0] in ("coarse", "struck") or sign[0] == "letter" and sign[3] == 1:
-        holes.append(29)
-    if sign[0] in ("fine", "struck") or sign[0] == "letter" and sign[3] == -1:
-        holes.append(30)
-    return tuple(holes)
 
 
 class Sizes(unittest.TestCase):

@@ -1,5 +1,7 @@
 """Things that many tests hand in, and what the document says, gone through one by one."""
 
+from ribboncast.errors import CastError
+
 ODD_THINGS = [
     None, True, False, 0, 1, -1, 2, 14, 15, 999999999999, "", " ", "a", "abc", "letter", "struck",
     [], (), [[]], ((),), [()], (None,), (True,), (False,), [None], ("",), ("a",), (" ",),
@@ -22,6 +24,46 @@ CASE = (
 PLAIN_CASE = ((1, 2, 3, 4), ((("a", 0), (" ", 0)), (("b", 0), None), (("c", 0), None), (("abc", 0), None)))
 
 ALL_STEPS = [(coarse, fine) for coarse in range(15) for fine in range(15)]
+
+
+def all_signs(size):
+    wide, high = size
+    signs = [("struck",)]
+    for step in range(15):
+        signs.append(("coarse", step))
+        signs.append(("fine", step))
+    for column in range(wide):
+        for row in range(high):
+            signs.append(("blank", column, row))
+            for cam in (-1, 0, 1):
+                signs.append(("letter", column, row, cam))
+    return signs
+
+
+def holes_by_the_document(size, sign):
+    """Point 6, clause by clause, reckoned otherwise than in the program."""
+    wide, high = size
+    holes = []
+    if sign[0] in ("letter", "blank"):
+        holes += [c for c in range(wide - 1) if c == sign[1]]
+        holes += [14 + r for r in range(high - 1) if r == sign[2]]
+    if sign[0] in ("coarse", "fine"):
+        holes += [14 + s for s in range(14) if s == sign[1]]
+    if sign[0] in ("blank", "coarse", "fine", "struck"):
+        holes.append(28)
+    if sign[0] in ("coarse", "struck") or sign[0] == "letter" and sign[3] == 1:
+        holes.append(29)
+    if sign[0] in ("fine", "struck") or sign[0] == "letter" and sign[3] == -1:
+        holes.append(30)
+    return tuple(holes)
+
+
+def told(call, *things):
+    """What a call tells, or a tuple of the refusal's name and its value at or by, None where it has none."""
+    try:
+        return call(*things)
+    except CastError as e:
+        return (e.__class__.__name__, getattr(e, "at", getattr(e, "by", None)))
 
 
 def letters_width_by_the_document(job, names):
@@ -57,3 +99,176 @@ def steps_by_the_document(job, names):
     if blanks > 0 and short >= fine * blanks or blanks == 0 and natural != measure:
         return ("Loose", short)
     return min(steps for width, steps in widths if width == greatest)
+
+
+def cells_by_the_document(case):
+    """Point 8: a tuple (name, column, row, cam) for each cell that isn't None."""
+    return [(cell[0], column, row, cell[1]) for row in range(len(case[1])) for column, cell in enumerate(case[1][row])
+            if cell]
+
+
+def sign_by_the_document(case, name):
+    """Point 8, of a name or the blank."""
+    for known, column, row, cam in cells_by_the_document(case):
+        if known == name:
+            return ("blank", column, row) if name == " " else ("letter", column, row, cam)
+    raise AssertionError(name)
+
+
+def rows_by_the_document(job, line):
+    """Point 17, hole by hole: the rows, or a tuple of the refusal's name and its value."""
+    names, way = line
+    size = (len(job[0][1][0]), len(job[0][0]))
+    signs = [sign_by_the_document(job[0], name) for name in names]
+    if way == "struck":
+        signs.append(("struck",))
+    else:
+        steps = steps_by_the_document(job, names) if way == "kept" else (0, 0)
+        over = width_by_the_document(job, names, (0, 0)) - job[4]
+        if steps[0] in ("Tight", "Loose"):
+            return steps
+        if over > 0:
+            return ("Tight", over)
+        signs += [("coarse", steps[0]), ("fine", steps[1])]
+    return [holes_by_the_document(size, sign) for sign in signs]
+
+
+def ribbon_by_the_document(job, lines):
+    """Point 17: the ribbon, or a tuple of the refusal's name and its value."""
+    ribbon = []
+    for line in lines:
+        rows = rows_by_the_document(job, line)
+        if isinstance(rows, tuple):
+            return rows
+        ribbon += rows
+    return ("TooMany", None) if len(ribbon) > 400 else ribbon
+
+
+class ReadThrough:
+    """Point 18, row by row: what is due at each is kept as one of the words end, coarse, letters."""
+
+    def __init__(self, job, ribbon):
+        self.job = job
+        self.case = job[0]
+        self.size = (len(self.case[1][0]), len(self.case[0]))
+        # Each line in the order of casting: [begin, end, pieces], None for those of a struck one.
+        self.lines = []
+        self.steps = None
+        self.due = "end"
+        self.refused = self.read_all(ribbon)
+
+    def read_all(self, ribbon):
+        known = {holes_by_the_document(self.size, sign): sign for sign in all_signs(self.size)}
+        for at in reversed(range(len(ribbon))):
+            sign = known.get(ribbon[at])
+            wrong = "NoHoles" if sign is None else self.read_sign(at, sign)
+            if wrong:
+                return (wrong, at)
+        return ("NoEnd", 0) if self.due == "coarse" else None
+
+    def read_sign(self, at, sign):
+        kind = sign[0]
+        if self.due == "coarse":
+            if kind != "coarse":
+                return "NoEnd"
+            self.steps = (sign[1], self.steps)
+            self.due = "letters"
+        elif kind == "struck":
+            self.lines.append([at, at + 1, None])
+            self.due = "letters"
+            return None
+        elif kind == "fine":
+            self.lines.append([at, at + 1, []])
+            self.steps = sign[1]
+            self.due = "coarse"
+            return None
+        elif kind == "coarse" or self.due == "end":
+            return "NoEnd"
+        elif self.lines[-1][2] is not None:
+            name = self.name_of(sign)
+            if name is None:
+                return "NoMold"
+            width = width_by_the_document(self.job, [name], self.steps)
+            self.lines[-1][2].append((name, width))
+        self.lines[-1][0] = at
+        return None
+
+    def name_of(self, sign):
+        cell = self.case[1][sign[2]][sign[1]]
+        if sign[0] == "blank":
+            return " " if cell == (" ", 0) else None
+        if cell is None or cell[0] == " " or cell[1] != sign[3]:
+            return None
+        return cell[0]
+
+    def galley(self):
+        return self.refused or [pieces for begin, end, pieces in self.lines if pieces is not None]
+
+    def ranges(self):
+        return self.refused or [(begin, end) for begin, end, pieces in self.lines[::-1]]
+
+    def anew(self, numbers):
+        if self.refused:
+            return self.refused
+        keyed = self.lines[::-1]
+        if [number for number in numbers if number not in range(len(keyed))]:
+            return ("NoLine", None)
+        return [keyed[at][2] for at in reversed(range(len(keyed))) if at in numbers and keyed[at][2] is not None]
+
+    def mended(self, ribbon, k, line):
+        if self.refused:
+            return self.refused
+        if k not in range(len(self.lines)):
+            return ("NoLine", None)
+        rows = rows_by_the_document(self.job, line)
+        if isinstance(rows, tuple):
+            return rows
+        begin, end = self.ranges()[k]
+        mended = list(ribbon)
+        mended[begin:end] = rows
+        return ("TooMany", None) if len(mended) > 400 else mended
+
+
+def chance_names(chance, case, most):
+    """Some names and blanks of a case, the blanks at most twelve."""
+    known = [name for name, column, row, cam in cells_by_the_document(case)]
+    names = []
+    for at in range(chance.randint(0, most)):
+        name = chance.choice(known + [" "] * 2)
+        names.append(name if names.count(" ") < 12 or name != " " else known[known[0] == " "])
+    return names
+
+
+def chance_lines(chance, job, most):
+    """Some keyed lines that are not refused."""
+    lines = []
+    for at in range(chance.randint(0, most)):
+        line = (chance_names(chance, job[0], 8), chance.choice(["kept", "kept", "open", "struck"]))
+        if isinstance(rows_by_the_document(job, line), list):
+            lines.append(line)
+    return lines
+
+
+def chance_row(chance, size):
+    """Any row of holes: mostly that of a sign."""
+    if chance.random() < 0.2:
+        return tuple(sorted(chance.sample(range(31), chance.randint(0, 4))))
+    return holes_by_the_document(size, chance.choice(all_signs(size)))
+
+
+def put_otherwise(chance, size, ribbon):
+    """A ribbon like this one, with some rows left out, put in, put otherwise, exchanged."""
+    changed = list(ribbon)
+    for change in range(chance.randint(1, 3)):
+        at = chance.randint(0, len(changed))
+        how = chance.choice(["in", "out", "otherwise", "exchanged"])
+        if how == "in" or not changed:
+            changed.insert(at, chance_row(chance, size))
+        elif how == "out":
+            del changed[at - 1]
+        elif how == "otherwise":
+            changed[at - 1] = chance_row(chance, size)
+        else:
+            other = chance.randrange(len(changed))
+            changed[at - 1], changed[other] = changed[other], changed[at - 1]
+    return changed
