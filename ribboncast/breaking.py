@@ -4,6 +4,8 @@ from ribboncast.cases import BLANK, named
 from ribboncast.errors import Loose, NoLines, Tight
 from ribboncast.keyboard import MOST_BLANKS, MOST_NAMES, natural_width, steps_by, steps_of, widening_of
 
+MOST_WORDS = 40
+
 
 def words_of(text):
     """The words of a text."""
@@ -13,10 +15,10 @@ def words_of(text):
     return text.split(" ")
 
 
-def named_words(job, text):
-    """A tuple (names, natural width) for each word of a text, or NoName."""
-    words = [named(job[0], word) for word in words_of(text)]
-    return [(names, natural_width(job, names)) for names in words]
+def named_words(job, words):
+    """A tuple (names, natural width) for each word, or NoName."""
+    named_ones = [named(job[0], word) for word in words]
+    return [(names, natural_width(job, names)) for names in named_ones]
 
 
 def line_widths_from(job, words, begin):
@@ -75,7 +77,7 @@ def table_by_words(job, words):
 
 def table_of(job, text):
     """The table of a text, or NoName."""
-    return table_by_words(job, named_words(job, text))
+    return table_by_words(job, named_words(job, words_of(text)))
 
 
 def line_of_words(words):
@@ -90,7 +92,7 @@ def line_of_words(words):
 
 def break_text(job, text):
     """The best lines of a text, each as a list of its names, or NoName, NoLines."""
-    words = named_words(job, text)
+    words = named_words(job, words_of(text))
     table = table_by_words(job, words)
     if table[0] is None:
         raise NoLines("the text can't be broken into lines")
@@ -107,3 +109,19 @@ def break_text(job, text):
 def waste_of(job, broken):
     """The waste of the lines of a text, each a list of names."""
     return sum([waste_by_steps(steps_of(job, names)) for names in broken[:-1]])
+
+
+def waste_by_lengths(job, words, lengths):
+    """The waste of lines of so many named words each, None where one of them can't be one."""
+    total = 0
+    begin = 0
+    for many in lengths:
+        widths = line_widths_from(job, words, begin)
+        if many > len(widths):
+            return None
+        waste = line_waste(job, widths[many - 1], many - 1, begin + many == len(words))
+        if waste is None:
+            return None
+        total += waste
+        begin += many
+    return total

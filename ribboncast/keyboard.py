@@ -32,6 +32,11 @@ def is_job(thing):
     return is_case(case) and are_job_numbers(scale, least, fine, measure)
 
 
+def fits_a_line(names):
+    """Tell whether names and blanks are no more than a line may have."""
+    return len(names) <= MOST_NAMES and names.count(BLANK) <= MOST_BLANKS
+
+
 def widening_of(steps):
     """How many fine steps a blank is widened by, by these steps."""
     coarse, fine = steps

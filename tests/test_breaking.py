@@ -1,5 +1,4 @@
 import copy
-import itertools
 import random
 import unittest
 
@@ -7,7 +6,7 @@ from ribboncast.breaking import break_text, table_of, waste_of
 from ribboncast.cases import is_case, named
 from ribboncast.errors import CastError, NoLines, NoName
 from ribboncast.keyboard import line_width, steps_of
-from things import CASE, PLAIN_CASE, steps_by_the_document, width_by_the_document
+from things import CASE, PLAIN_CASE, AllWays, joined, steps_by_the_document
 
 # a has 1 grain, b 2, c 3; a blank from 2 to 226, all of them fine steps.
 JOB = (PLAIN_CASE, 1, 2, 1, 12)
@@ -15,67 +14,6 @@ JOB = (PLAIN_CASE, 1, 2, 1, 12)
 
 def with_measure(job, measure):
     return job[:4] + (measure,)
-
-
-def joined(words):
-    """The line of some named words."""
-    line = []
-    for names in words:
-        line += [" "] * (line != []) + names
-    return line
-
-
-class AllWays:
-    """Points 15 and 16, by all ways to break, for few words."""
-
-    def __init__(self, job, text):
-        self.job = job
-        self.words = [named(job[0], word) for word in text.split(" ")] if text else []
-        self.known = {}
-
-    def waste_of_line(self, begin, end):
-        """The waste of the line of these words, None where it can't be one."""
-        if (begin, end) not in self.known:
-            self.known[(begin, end)] = self.reckoned_waste(joined(self.words[begin:end]), end == len(self.words))
-        return self.known[(begin, end)]
-
-    def reckoned_waste(self, names, last):
-        if len(names) > 60 or names.count(" ") > 12:
-            return None
-        if last:
-            return 0 if width_by_the_document(self.job, names, (0, 0)) <= self.job[4] else None
-        told = steps_by_the_document(self.job, names)
-        return None if isinstance(told[0], str) else (15 * told[0] + told[1]) ** 2
-
-    def ways_from(self, first):
-        """A tuple (lines, waste, words of each line) for each way to break the words from one on."""
-        many = len(self.words)
-        if first == many:
-            return [(0, 0, ())]
-        ways = []
-        for cuts in itertools.product([False, True], repeat=many - first - 1):
-            ends = [first + 1 + at for at, cut in enumerate(cuts) if cut] + [many]
-            begins = [first] + ends[:-1]
-            wastes = [self.waste_of_line(begin, end) for begin, end in zip(begins, ends)]
-            if None not in wastes:
-                lengths = tuple([end - begin for begin, end in zip(begins, ends)])
-                ways.append((len(ends), sum(wastes), lengths))
-        return ways
-
-    def table(self):
-        return [min([way[:2] for way in self.ways_from(first)], default=None) for first in range(len(self.words) + 1)]
-
-    def broken(self):
-        """The lines of the best way, or None."""
-        ways = self.ways_from(0)
-        if not ways:
-            return None
-        lines = []
-        begin = 0
-        for many in min(ways)[2]:
-            lines.append(joined(self.words[begin:begin + many]))
-            begin += many
-        return lines
 
 
 class Breaking(unittest.TestCase):

@@ -56,8 +56,8 @@ class Casting(unittest.TestCase):
                                  [[(" ", width), ("a", 50), (" ", width)]])
 
     def test_each_line_has_its_own_steps(self):
-        self.assertEqual(cast_ribbon(JOB, [BLANK, COARSE, (16, 28, 30), BLANK, (15, 28, 29), FINE, BLANK, COARSE, FINE]),
-                         [[(" ", 30)], [(" ", 60)], [(" ", 34)]])
+        ribbon = [BLANK, COARSE, (16, 28, 30), BLANK, (15, 28, 29), FINE, BLANK, COARSE, FINE]
+        self.assertEqual(cast_ribbon(JOB, ribbon), [[(" ", 30)], [(" ", 60)], [(" ", 34)]])
 
     def test_each_cell_is_cast_in_its_units(self):
         rows = [A, B, (14, 30), (0, 15), (1, 15, 29), (15, 30), (0, 16), (16, 30), BLANK, (30,)]
@@ -235,7 +235,8 @@ class Pull(unittest.TestCase):
             self.assertEqual(galley, kept)
 
     def test_the_pull_is_what_was_keyed_and_not_struck(self):
-        lines = [(["ffi", " ", "a"], "open"), (["b"], "struck"), ([], "open"), (["a", " ", "b"], "kept"), ([" "], "open")]
+        lines = [(["ffi", " ", "a"], "open"), (["b"], "struck"), ([], "open"), (["a", " ", "b"], "kept"),
+                 ([" "], "open")]
         job = JOB[:4] + (300,)
         self.assertEqual(pull_of(cast_ribbon(job, ribbon_of(job, lines))), ["ffi a", "", "a b", " "])
 
